@@ -1,0 +1,79 @@
+"""Values that several test files use."""
+
+from timeheld import errors
+from timeheld.zones import is_zone
+
+AWARE = ("elapsed", "elapsed", "shift", "both")
+NAIVE = ("wall", "wall", "keep", "first")
+
+# The zone of the examples: a gap at reading 1, a fold at reading 101.
+ZONE = (1, ((0, 2), (100, 1)))
+
+NOT_NUMBERS_OR_PAIRS = (
+    True, False, None, "", "0", "1", "refused", (), (0,), [], [0], {}, {0: 0},
+    errors.TimeError("0"), errors.BadZone, is_zone,
+)
+
+NOT_INTEGERS = NOT_NUMBERS_OR_PAIRS + ((0, 0),)
+
+BIG = 10 ** 40
+
+NOT_ZONES = NOT_NUMBERS_OR_PAIRS + (
+    0, (0, 0), (0, None), (0, True), (0, ""), (0, []), (0, {}), (0, (), ()), [0, ()], ((), 0), "0 0:2",
+    (True, ()), (False, ()), ("0", ()), (None, ()), ((0,), ()),
+    (-13, ()), (13, ()), (BIG, ()), (-BIG, ()),
+    (0, [(0, 2)]), (0, ([0, 2],)), (0, (0, 2)), (0, ((0,),)), (0, ((),)), (0, ((0, 2, 3),)),
+    (0, (None,)), (0, ("02",)), (0, ({0: 0, 2: 2},)), (0, (errors.BadZone("0"),)),
+    (0, ((True, 2),)), (0, ((False, 2),)), (0, (("0", 2),)), (0, ((None, 2),)), (0, (((), 2),)),
+    (0, ((0, True),)), (1, ((0, False),)), (0, ((0, "2"),)), (0, ((0, None),)), (0, ((0, [2]),)),
+    (0, ((-1001, 2),)), (0, ((1001, 2),)), (0, ((BIG, 2),)), (0, ((-BIG, 2),)),
+    (0, ((0, 0),)), (0, ((0, 4),)), (0, ((0, -4),)), (0, ((0, BIG),)),
+    (0, ((0, 2), (20, 2))), (0, ((0, 2), (20, 6))), (0, ((0, 2), (20, -2))),
+    (12, ((0, 15), (20, 16))), (-12, ((0, -15), (20, -16))), (12, ((0, 14), (20, 16))),
+    (0, ((0, 2), (11, 1))), (0, ((0, 2), (0, 1))), (0, ((0, 2), (-12, 1))), (0, ((20, 2), (0, 1))),
+    (0, ((-1000, 2), (-989, 1))), (0, ((0, 2), (12, 1), (23, 2))),
+    (0, tuple((20 * k, 1 - k % 2) for k in range(9))),
+    (0, ((0, 2), (100, 1), None)), (0, ((0, 2), (100, True))),
+)
+
+ZONES = (
+    (0, ()), (-12, ()), (12, ()), ZONE,
+    (0, ((0, 1),)), (0, ((0, 2),)), (0, ((0, 3),)), (0, ((0, -1),)), (0, ((0, -2),)), (0, ((0, -3),)),
+    (12, ((-1000, 15),)), (-12, ((1000, -15),)), (12, ((1000, 15), )), (-12, ((-1000, -15),)),
+    (0, ((0, 3), (12, 0))), (0, ((0, -3), (12, 0))), (0, ((0, 3), (12, 6))), (0, ((0, -3), (12, -6))),
+    (-1, ((-30, 2), (-18, -1), (-6, 2), (6, 5), (18, 2), (30, -1), (42, -4), (54, -1))),
+    (3, ((-1000, 0), (-988, 3), (-976, 5), (-964, 4), (964, 3), (976, 5), (988, 2), (1000, 3))),
+    (12, ((-60, 15), (-40, 13), (-20, 15), (0, 14), (20, 15), (40, 12))),
+    (-12, ((-60, -15), (-40, -13), (-20, -15), (0, -14), (20, -15), (40, -12))),
+)
+
+NOT_LIBRARIES = NOT_INTEGERS + (
+    0, 47, "elapsed", AWARE[:3], AWARE + ("both",), list(AWARE), (AWARE,), dict(enumerate(AWARE)),
+    ("Elapsed",) + AWARE[1:], ("keep",) + AWARE[1:], (None,) + AWARE[1:], (True,) + AWARE[1:], ([],) + AWARE[1:],
+    ("elapsed", "first", "shift", "both"), ("elapsed", "", "shift", "both"), ("elapsed", 0, "shift", "both"),
+    ("elapsed", ("elapsed",), "shift", "both"), ("elapsed", "elapse", "shift", "both"),
+    ("elapsed", "elapsed", "both", "shift"), ("elapsed", "elapsed", "first", "both"),
+    ("elapsed", "elapsed", "second", "both"), ("elapsed", "elapsed", None, "both"),
+    ("elapsed", "elapsed", ["shift"], "both"), ("elapsed", "elapsed", "shift ", "both"),
+    ("elapsed", "elapsed", "shift", "keep"), ("elapsed", "elapsed", "shift", "shift"),
+    ("elapsed", "elapsed", "shift", {}), ("elapsed", "elapsed", "shift", 1), ("elapsed", "elapsed", "shift", "BOTH"),
+    ("both", "shift", "elapsed", "elapsed"),
+)
+
+# In ZONE, for every library: 1 is in the gap, 101 in the fold, and all other readings have one instant.
+NOT_TIMES = NOT_NUMBERS_OR_PAIRS + (
+    0, 101, "101", "101'", (0, 0, 0), [0, 0], ((0, 0),), {0: 0, 1: 0},
+    (True, 0), (False, 0), ("0", 0), (None, 0), ([], 0), ((0,), 0),
+    (0, True), (0, False), (0, "0"), (0, None), (0, []), (0, (0,)),
+    (0, 1), (0, 2), (0, -1), (0, BIG), (1, 1), (1, 2), (1, -1), (100, 1), (102, 1), (101, 2), (101, -1), (101, False),
+    (90001, 0), (-90001, 0), (BIG, 0), (-BIG, 0),
+)
+
+
+def error_of(function, *arguments):
+    """Return the class of the error that a call raises, None if it raises none."""
+    try:
+        function(*arguments)
+    except Exception as error:
+        return error.__class__
+    return None

@@ -1,0 +1,77 @@
+"""Promise 1: the errors, and what holds for all functions of the package."""
+
+import copy
+import unittest
+
+from samples import AWARE, NOT_INTEGERS, NOT_LIBRARIES, NOT_TIMES, NOT_ZONES, ZONE, error_of
+from timeheld import errors, libraries, zones
+
+NAMES = (
+    "BadZone", "BadInstant", "BadReading", "BadLibrary", "BadTime", "BadDuration", "BadRule", "BadArguments",
+    "BadKind", "BadRules", "NotText", "InvalidText", "NotNow", "NothingToUndo",
+)
+
+
+class TestErrors(unittest.TestCase):
+    def test_base_class_is_a_direct_subclass_of_value_error(self):
+        self.assertEqual(errors.TimeError.__bases__, (ValueError,))
+
+    def test_all_errors_are_direct_subclasses_of_time_error(self):
+        for name in NAMES:
+            with self.subTest(name=name):
+                self.assertEqual(getattr(errors, name).__bases__, (errors.TimeError,))
+
+    def test_no_other_errors_are_defined(self):
+        defined = [name for name, value in vars(errors).items() if isinstance(value, type)]
+        self.assertEqual(sorted(defined), sorted(NAMES + ("TimeError",)))
+
+    def test_errors_are_defined_under_their_names_in_their_file(self):
+        for name in NAMES + ("TimeError",):
+            with self.subTest(name=name):
+                self.assertEqual(getattr(errors, name).__name__, name)
+                self.assertEqual(getattr(errors, name).__module__, "timeheld.errors")
+
+    def test_errors_have_no_fields(self):
+        for name in NAMES:
+            with self.subTest(name=name):
+                self.assertEqual(vars(getattr(errors, name)("told")), {})
+
+    def test_errors_are_caught_as_time_error_and_as_value_error(self):
+        with self.assertRaises(errors.TimeError):
+            zones.kind_of(0)
+        with self.assertRaises(ValueError):
+            zones.kind_of(0)
+
+
+class TestArguments(unittest.TestCase):
+    def test_wrong_arguments_are_not_modified(self):
+        calls = [(zones.is_zone, wrong) for wrong in NOT_ZONES]
+        calls += [(zones.kind_of, wrong) for wrong in NOT_ZONES]
+        calls += [(zones.offset_at, wrong, [0]) for wrong in NOT_ZONES]
+        calls += [(zones.instants_of, ZONE, wrong) for wrong in NOT_INTEGERS]
+        calls += [(libraries.is_library, wrong) for wrong in NOT_LIBRARIES]
+        calls += [(libraries.is_time, AWARE, ZONE, wrong) for wrong in NOT_TIMES]
+        calls += [(libraries.to_instant, AWARE, ZONE, wrong) for wrong in NOT_TIMES]
+        calls += [(libraries.read, wrong, list(ZONE), {}) for wrong in NOT_LIBRARIES]
+        for function, *arguments in calls:
+            with self.subTest(function=function.__name__, arguments=arguments):
+                before = copy.copy(arguments), repr(arguments)
+                error_of(function, *arguments)
+                self.assertEqual((arguments, repr(arguments)), before)
+
+    def test_deep_and_long_values_raise_the_named_error(self):
+        deep = ()
+        for _ in range(50000):
+            deep = (deep, deep)
+        long = (0,) * 100000
+        for wrong in (deep, long, [long] * 3, (0, long), (0, (deep,)), (0, deep), (deep, ())):
+            self.assertIs(zones.is_zone(wrong), False)
+            self.assertIs(error_of(zones.kind_of, wrong), errors.BadZone)
+            self.assertIs(error_of(libraries.read, wrong, ZONE, 0), errors.BadLibrary)
+            self.assertIs(error_of(libraries.read, AWARE, ZONE, wrong), errors.BadReading)
+            self.assertIs(error_of(libraries.to_instant, AWARE, ZONE, wrong), errors.BadTime)
+
+    def test_a_call_that_raises_changes_nothing(self):
+        before = libraries.read(AWARE, ZONE, 1)
+        self.assertIs(error_of(libraries.read, AWARE, ZONE, None), errors.BadReading)
+        self.assertEqual(libraries.read(AWARE, ZONE, 1), before)

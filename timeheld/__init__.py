@@ -1,0 +1,1 @@
+"""Timeheld: which rules of time arithmetic hold in which date-time libraries."""
