@@ -1,7 +1,9 @@
-"""The sentences of DOC.md, points 2 to 6, told again as plainly and slowly as can be.
+"""The sentences of DOC.md, points 2 to 7, told again as plainly and slowly as can be.
 
 Nothing of the package is used here, so that the tests compare two independent programs.
 """
+
+import functools
 
 
 def offset(zone, instant):
@@ -10,6 +12,7 @@ def offset(zone, instant):
     return past[-1] if past else zone[0]
 
 
+@functools.cache
 def instants(zone, reading):
     """All instants with a reading: no offset is beyond 15 hours."""
     return tuple(at for at in range(reading - 15, reading + 16) if at + offset(zone, at) == reading)
@@ -69,6 +72,36 @@ def read(library, zone, reading):
     if gap == "refuse":
         return "refused"
     return from_instant(library, zone, reading - skipping_offset(zone, reading))
+
+
+def add(library, zone, time, duration):
+    """A time plus a duration."""
+    if library[0] == "wall":
+        return read(library, zone, time[0] + duration)
+    return from_instant(library, zone, to_instant(library, zone, time) + duration)
+
+
+def subtract(library, zone, one, other):
+    """The difference of two times."""
+    if library[0] == "wall":
+        return one[0] - other[0]
+    return to_instant(library, zone, one) - to_instant(library, zone, other)
+
+
+def compare(library, zone, one, other):
+    """The order of two times."""
+    if library[1] == "wall":
+        first, second = one[0], other[0]
+    else:
+        first, second = to_instant(library, zone, one), to_instant(library, zone, other)
+    if first < second:
+        return -1
+    return 1 if first > second else 0
+
+
+def times(library, zone, readings):
+    """The times with some readings."""
+    return [(reading, turn) for reading in readings for turn in passes(library, zone, reading)]
 
 
 def near(zone):

@@ -9,6 +9,42 @@ NAIVE = ("wall", "wall", "keep", "first")
 # The zone of the examples: a gap at reading 1, a fold at reading 101.
 ZONE = (1, ((0, 2), (100, 1)))
 
+# A gap at readings 0 and 1; a fold at readings -2 and -1.
+SKIP = (0, ((0, 2),))
+REPEAT = (0, ((0, -2),))
+
+LIBRARIES = [
+    (sums, order, gap, fold)
+    for sums in ("elapsed", "wall")
+    for order in ("elapsed", "wall")
+    for gap in ("keep", "refuse", "shift")
+    for fold in ("both", "first", "refuse", "second")
+]
+
+KINDS = ("fixed", "skips", "repeats", "both")
+
+# The rules in the order of the document, with the shapes of their arguments.
+SHAPES = {
+    "from universal and back": ("instant",),
+    "to universal and back": ("time",),
+    "every reading": ("reading",),
+    "some reading": ("reading",),
+    "there and back": ("time", "duration"),
+    "sum of durations": ("time", "duration", "duration"),
+    "elapsed time": ("time", "duration"),
+    "same clock": ("time",),
+    "later": ("time", "duration"),
+    "sums told": ("time", "duration"),
+    "difference recovers": ("time", "time"),
+    "order by difference": ("time", "time"),
+    "equal means one instant": ("time", "time"),
+    "one instant means equal": ("time", "time"),
+    "one instant, one time": ("time", "time"),
+    "order of instants": ("time", "time"),
+    "order kept": ("time", "time", "duration"),
+    "equal sums": ("time", "time", "duration"),
+}
+
 NOT_NUMBERS_OR_PAIRS = (
     True, False, None, "", "0", "1", "refused", (), (0,), [], [0], {}, {0: 0},
     errors.TimeError("0"), errors.BadZone, is_zone,
@@ -68,6 +104,39 @@ NOT_TIMES = NOT_NUMBERS_OR_PAIRS + (
     (0, 1), (0, 2), (0, -1), (0, BIG), (1, 1), (1, 2), (1, -1), (100, 1), (102, 1), (101, 2), (101, -1), (101, False),
     (90001, 0), (-90001, 0), (BIG, 0), (-BIG, 0),
 )
+
+NOT_DURATIONS = NOT_INTEGERS + (-9001, 9001, -90000, 90000, BIG, -BIG)
+
+NOT_RULES = NOT_INTEGERS + (
+    5, "Later", "later ", " later", "LATER", "late", "later, later", "order", "sums", "elapsed", "both", "time",
+    "one instant one time", "from_universal_and_back", ("later",), ["later"], {"later": "later"}, ("time", "duration"),
+    tuple(SHAPES), list(SHAPES), dict(SHAPES),
+)
+
+NOT_KINDS = NOT_INTEGERS + (
+    4, "skip", "repeat", "Both", "both ", "fix", "shift", "keep", "neither", "skips repeats",
+    ("skips", "repeats"), ("both",), ["both"], {"both": "both"}, KINDS,
+)
+
+
+def with_gap(gap):
+    """Return the libraries with a word for gaps."""
+    return [library for library in LIBRARIES if library[2] == gap]
+
+
+def with_fold(fold):
+    """Return the libraries with a word for folds."""
+    return [library for library in LIBRARIES if library[3] == fold]
+
+
+def with_sums(sums, libraries):
+    """Return those of some libraries with a word for sums."""
+    return [library for library in libraries if library[0] == sums]
+
+
+def with_order(order, libraries):
+    """Return those of some libraries with a word for order."""
+    return [library for library in libraries if library[1] == order]
 
 
 def error_of(function, *arguments):

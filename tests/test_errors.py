@@ -3,8 +3,10 @@
 import copy
 import unittest
 
-from samples import AWARE, NOT_INTEGERS, NOT_LIBRARIES, NOT_TIMES, NOT_ZONES, ZONE, error_of
-from timeheld import errors, libraries, zones
+from samples import (
+    AWARE, NOT_DURATIONS, NOT_INTEGERS, NOT_KINDS, NOT_LIBRARIES, NOT_RULES, NOT_TIMES, NOT_ZONES, ZONE, error_of,
+)
+from timeheld import decisions, errors, libraries, rules, sums, zones
 
 NAMES = (
     "BadZone", "BadInstant", "BadReading", "BadLibrary", "BadTime", "BadDuration", "BadRule", "BadArguments",
@@ -53,6 +55,14 @@ class TestArguments(unittest.TestCase):
         calls += [(libraries.is_time, AWARE, ZONE, wrong) for wrong in NOT_TIMES]
         calls += [(libraries.to_instant, AWARE, ZONE, wrong) for wrong in NOT_TIMES]
         calls += [(libraries.read, wrong, list(ZONE), {}) for wrong in NOT_LIBRARIES]
+        calls += [(sums.add, AWARE, ZONE, (0, 0), wrong) for wrong in NOT_DURATIONS]
+        calls += [(sums.subtract, AWARE, ZONE, (0, 0), wrong) for wrong in NOT_TIMES]
+        calls += [(sums.compare, AWARE, ZONE, wrong, [0, 0]) for wrong in NOT_TIMES]
+        calls += [(rules.shape, wrong) for wrong in NOT_RULES]
+        calls += [(rules.holds_for, AWARE, ZONE, "order kept", [wrong, [0, 0], {}]) for wrong in NOT_TIMES]
+        calls += [(rules.holds_for, AWARE, ZONE, "same clock", (wrong,)) for wrong in NOT_TIMES]
+        calls += [(decisions.holds, AWARE, wrong, ["later"]) for wrong in NOT_KINDS]
+        calls += [(decisions.counterexample, AWARE, "both", wrong) for wrong in NOT_RULES]
         for function, *arguments in calls:
             with self.subTest(function=function.__name__, arguments=arguments):
                 before = copy.copy(arguments), repr(arguments)
@@ -70,8 +80,20 @@ class TestArguments(unittest.TestCase):
             self.assertIs(error_of(libraries.read, wrong, ZONE, 0), errors.BadLibrary)
             self.assertIs(error_of(libraries.read, AWARE, ZONE, wrong), errors.BadReading)
             self.assertIs(error_of(libraries.to_instant, AWARE, ZONE, wrong), errors.BadTime)
+            self.assertIs(error_of(sums.add, AWARE, ZONE, (0, 0), wrong), errors.BadDuration)
+            self.assertIs(error_of(sums.subtract, AWARE, ZONE, (0, 0), wrong), errors.BadTime)
+            self.assertIs(error_of(sums.compare, AWARE, ZONE, wrong, wrong), errors.BadTime)
+            self.assertIs(error_of(rules.shape, wrong), errors.BadRule)
+            for rule in rules.rules():
+                self.assertIs(error_of(rules.holds_for, AWARE, ZONE, rule, wrong), errors.BadArguments)
+            self.assertIs(error_of(decisions.holds, AWARE, wrong, wrong), errors.BadKind)
+            self.assertIs(error_of(decisions.counterexample, AWARE, "both", wrong), errors.BadRule)
 
     def test_a_call_that_raises_changes_nothing(self):
         before = libraries.read(AWARE, ZONE, 1)
         self.assertIs(error_of(libraries.read, AWARE, ZONE, None), errors.BadReading)
         self.assertEqual(libraries.read(AWARE, ZONE, 1), before)
+        before = rules.rules(), decisions.counterexample(AWARE, "both", "same clock")
+        self.assertIs(error_of(rules.holds_for, AWARE, ZONE, "same clock", (0,)), errors.BadArguments)
+        self.assertIs(error_of(decisions.counterexample, AWARE, "both", "Same clock"), errors.BadRule)
+        self.assertEqual((rules.rules(), decisions.counterexample(AWARE, "both", "same clock")), before)

@@ -3,27 +3,12 @@
 import unittest
 
 import oracle
-from samples import AWARE, BIG, NAIVE, NOT_INTEGERS, NOT_LIBRARIES, NOT_TIMES, NOT_ZONES, ZONE, ZONES, error_of
+from samples import (
+    AWARE, BIG, LIBRARIES, NAIVE, NOT_INTEGERS, NOT_LIBRARIES, NOT_TIMES, NOT_ZONES, REPEAT, SKIP, ZONE, ZONES,
+    error_of, with_fold, with_gap,
+)
 from timeheld.errors import BadInstant, BadLibrary, BadReading, BadTime, BadZone
 from timeheld.libraries import all_libraries, from_instant, is_library, is_time, read, to_instant
-
-SKIP = (0, ((0, 2),))
-REPEAT = (0, ((0, -2),))
-LIBRARIES = [
-    (sums, order, gap, fold)
-    for sums in ("elapsed", "wall")
-    for order in ("elapsed", "wall")
-    for gap in ("keep", "refuse", "shift")
-    for fold in ("both", "first", "refuse", "second")
-]
-
-
-def with_gap(gap):
-    return [library for library in LIBRARIES if library[2] == gap]
-
-
-def with_fold(fold):
-    return [library for library in LIBRARIES if library[3] == fold]
 
 
 class TestExamples(unittest.TestCase):

@@ -13,6 +13,9 @@ DEFINED = {
     ),
     "zones.py": ("is_zone", "offset_at", "kind_of", "instants_of"),
     "libraries.py": ("is_library", "is_time", "all_libraries", "to_instant", "from_instant", "read"),
+    "sums.py": ("add", "subtract", "compare"),
+    "rules.py": ("rules", "shape", "holds_for"),
+    "decisions.py": ("holds", "counterexample"),
 }
 
 OUTSIDE = ("open", "print", "input", "eval", "exec", "compile", "globals", "locals", "vars", "float", "hash", "id")

@@ -2,6 +2,7 @@
 
 MOST_INSTANT = 100000
 MOST_READING = 90000
+MOST_DURATION = 9000
 
 
 def is_between(value, low, high):
@@ -25,3 +26,8 @@ def is_instant(value):
 def is_reading(value):
     """Return whether a value is a reading within the bounds of arguments."""
     return is_between(value, -MOST_READING, MOST_READING)
+
+
+def is_duration(value):
+    """Return whether a value is a duration within the bounds of arguments."""
+    return is_between(value, -MOST_DURATION, MOST_DURATION)
