@@ -1,6 +1,7 @@
 """Values that several test files use."""
 
 from timeheld import errors
+from timeheld.desks import Desk
 from timeheld.zones import is_zone
 
 AWARE = ("elapsed", "elapsed", "shift", "both")
@@ -47,7 +48,7 @@ SHAPES = {
 
 NOT_NUMBERS_OR_PAIRS = (
     True, False, None, "", "0", "1", "refused", (), (0,), [], [0], {}, {0: 0},
-    errors.TimeError("0"), errors.BadZone, is_zone,
+    errors.TimeError("0"), errors.BadZone, is_zone, Desk(AWARE, ZONE),
 )
 
 NOT_INTEGERS = NOT_NUMBERS_OR_PAIRS + ((0, 0),)
@@ -111,6 +112,18 @@ NOT_RULES = NOT_INTEGERS + (
     5, "Later", "later ", " later", "LATER", "late", "later, later", "order", "sums", "elapsed", "both", "time",
     "one instant one time", "from_universal_and_back", ("later",), ["later"], {"later": "later"}, ("time", "duration"),
     tuple(SHAPES), list(SHAPES), dict(SHAPES),
+)
+
+NOT_TUPLES_OF_RULES = tuple(value for value in NOT_INTEGERS if value != ()) + (
+    5, "later", "later same clock", ["later"], [], {"later": True}, dict(SHAPES), list(SHAPES), (SHAPES,),
+    ("later", "later"), ("later", "same clock", "later"), tuple(SHAPES) * 2, tuple(SHAPES) + ("later",),
+    ("Later",), ("later", "same"), ("same clock", ""), ("later", 5), ("later", None), ("later", True),
+    ("later", ["same clock"]), ("later", ("same clock",)), (("later", "same clock"),), ("later", {}),
+    ("later", is_zone), ("later", errors.TimeError("later")), ("time", "duration"),
+)
+
+NOT_STRINGS = tuple(value for value in NOT_INTEGERS if not isinstance(value, str)) + (
+    0, -3, BIG, ZONE, AWARE, ("0",), ["0"], {"0": "0"}, ("s", "h", "o", "w"), ("add", 1), ["show"], {"show": None},
 )
 
 NOT_KINDS = NOT_INTEGERS + (

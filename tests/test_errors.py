@@ -4,9 +4,10 @@ import copy
 import unittest
 
 from samples import (
-    AWARE, NOT_DURATIONS, NOT_INTEGERS, NOT_KINDS, NOT_LIBRARIES, NOT_RULES, NOT_TIMES, NOT_ZONES, ZONE, error_of,
+    AWARE, NOT_DURATIONS, NOT_INTEGERS, NOT_KINDS, NOT_LIBRARIES, NOT_RULES, NOT_STRINGS, NOT_TIMES,
+    NOT_TUPLES_OF_RULES, NOT_ZONES, ZONE, error_of,
 )
-from timeheld import decisions, errors, libraries, rules, sums, zones
+from timeheld import decisions, desks, errors, libraries, profiles, rules, sums, texts, zones
 
 NAMES = (
     "BadZone", "BadInstant", "BadReading", "BadLibrary", "BadTime", "BadDuration", "BadRule", "BadArguments",
@@ -63,6 +64,16 @@ class TestArguments(unittest.TestCase):
         calls += [(rules.holds_for, AWARE, ZONE, "same clock", (wrong,)) for wrong in NOT_TIMES]
         calls += [(decisions.holds, AWARE, wrong, ["later"]) for wrong in NOT_KINDS]
         calls += [(decisions.counterexample, AWARE, "both", wrong) for wrong in NOT_RULES]
+        calls += [(profiles.profile, wrong, ["both"]) for wrong in NOT_LIBRARIES]
+        calls += [(profiles.implies, "both", wrong, ["later"]) for wrong in NOT_RULES]
+        calls += [(profiles.parting, wrong, ["later"], {}) for wrong in NOT_KINDS]
+        calls += [(profiles.libraries_with, "both", wrong) for wrong in NOT_TUPLES_OF_RULES]
+        calls += [(profiles.most_rules, wrong) for wrong in NOT_KINDS]
+        calls += [(texts.write_zone, wrong) for wrong in NOT_ZONES]
+        calls += [(texts.read_zone, wrong) for wrong in NOT_STRINGS]
+        calls += [(desks.Desk, wrong, list(ZONE)) for wrong in NOT_LIBRARIES]
+        calls += [(desks.Desk, AWARE, wrong) for wrong in NOT_ZONES]
+        calls += [(desks.Desk(AWARE, ZONE).run, wrong) for wrong in NOT_STRINGS]
         for function, *arguments in calls:
             with self.subTest(function=function.__name__, arguments=arguments):
                 before = copy.copy(arguments), repr(arguments)
@@ -88,6 +99,14 @@ class TestArguments(unittest.TestCase):
                 self.assertIs(error_of(rules.holds_for, AWARE, ZONE, rule, wrong), errors.BadArguments)
             self.assertIs(error_of(decisions.holds, AWARE, wrong, wrong), errors.BadKind)
             self.assertIs(error_of(decisions.counterexample, AWARE, "both", wrong), errors.BadRule)
+            self.assertIs(error_of(profiles.implies, "both", wrong, wrong), errors.BadRule)
+            self.assertIs(error_of(profiles.libraries_with, "both", wrong), errors.BadRules)
+            self.assertIs(error_of(profiles.libraries_with, "both", ("later", wrong)), errors.BadRules)
+            self.assertIs(error_of(profiles.most_rules, wrong), errors.BadKind)
+            self.assertIs(error_of(texts.write_zone, wrong), errors.BadZone)
+            self.assertIs(error_of(texts.read_zone, wrong), errors.NotText)
+            self.assertIs(error_of(desks.Desk, wrong, wrong), errors.BadLibrary)
+            self.assertIs(error_of(desks.Desk(AWARE, ZONE).run, wrong), errors.NotText)
 
     def test_a_call_that_raises_changes_nothing(self):
         before = libraries.read(AWARE, ZONE, 1)
@@ -97,3 +116,11 @@ class TestArguments(unittest.TestCase):
         self.assertIs(error_of(rules.holds_for, AWARE, ZONE, "same clock", (0,)), errors.BadArguments)
         self.assertIs(error_of(decisions.counterexample, AWARE, "both", "Same clock"), errors.BadRule)
         self.assertEqual((rules.rules(), decisions.counterexample(AWARE, "both", "same clock")), before)
+        desk = desks.Desk(AWARE, ZONE)
+        desk.run("instant 5")
+        for function, wrong in ((desk.run, None), (desk.run, "add"), (desk.run, "add 9001")):
+            self.assertIsNotNone(error_of(function, wrong))
+            self.assertEqual([desk.time, desk.run("when")], [(7, 0), "5"])
+        desk.undo()
+        self.assertIs(error_of(desk.undo), errors.NothingToUndo)
+        self.assertEqual(desk.time, (-499, 0))

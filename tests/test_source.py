@@ -16,6 +16,9 @@ DEFINED = {
     "sums.py": ("add", "subtract", "compare"),
     "rules.py": ("rules", "shape", "holds_for"),
     "decisions.py": ("holds", "counterexample"),
+    "profiles.py": ("profile", "libraries_with", "most_rules", "implies", "parting"),
+    "texts.py": ("write_zone", "read_zone"),
+    "desks.py": ("Desk",),
 }
 
 OUTSIDE = ("open", "print", "input", "eval", "exec", "compile", "globals", "locals", "vars", "float", "hash", "id")
@@ -31,6 +34,13 @@ class TestSource(unittest.TestCase):
         for name, defined in DEFINED.items():
             here = [node.name for node in found[name].body if isinstance(node, (ast.FunctionDef, ast.ClassDef))]
             self.assertEqual([name for name in defined if name not in here], [])
+
+    def test_methods_of_the_desk_are_defined_in_its_class(self):
+        desk = next(node for node in trees()["desks.py"].body if isinstance(node, ast.ClassDef) and node.name == "Desk")
+        here = [node.name for node in desk.body if isinstance(node, ast.FunctionDef)]
+        self.assertEqual([name for name in ("__init__", "run", "undo", "time") if here.count(name) != 1], [])
+        time = next(node for node in desk.body if isinstance(node, ast.FunctionDef) and node.name == "time")
+        self.assertEqual([decorator.id for decorator in time.decorator_list], ["property"])
 
     def test_imports_come_from_the_package_only(self):
         for name, tree in trees().items():
